@@ -1,0 +1,1 @@
+"""Turnways: callers' own functions side by side, decided for all turns."""
