@@ -52,8 +52,48 @@ CLASSES = {
             "twin": "self",
         },
     },
+    "webs": {
+        "Web": {
+            "of": "shop, turns",
+            "turns": "self",
+            "has": "self, turns",
+            "orders": "self",
+            "steps": "self",
+            "before": "self, one, other",
+            "links": "self",
+            "layers": "self",
+            "moments": "self",
+            "outcome_at": "self, moment",
+            "serial": "self",
+            "ring": "self",
+            "unbroken": "self, k, first, last",
+            "__eq__": "self, other",
+        },
+    },
 }
-FUNCTIONS = {"runs": {"replay": "shop, turns"}}
+FUNCTIONS = {
+    "runs": {"replay": "shop, turns"},
+    "asks": {
+        "ways": "shop",
+        "webs": "shop",
+        "orders": "shop",
+        "beginnings": "shop",
+        "outcomes": "shop",
+        "every": "shop, test",
+        "some": "shop, test",
+        "first": "shop, test",
+        "sometimes": "shop, test",
+        "unavoidable": "shop, test",
+        "fewest_changes": "shop, test",
+    },
+    "stills": {"standstills": "shop", "ring_of": "run", "clashes": "shop", "not_serial": "shop"},
+    "repairs": {
+        "are_all": "shop, rows",
+        "deciding": "shop, test",
+        "kept": "shop, stretches",
+        "least_stretches": "shop, stretches, test",
+    },
+}
 
 BUILTINS = set(
     "len range enumerate zip min max sum abs sorted reversed int str bool bytes list tuple dict set isinstance ord repr "
@@ -203,6 +243,24 @@ class Rules(unittest.TestCase):
                     self.assertNotIn(node.arg, taken, name)
                 if isinstance(node, ast.Name) and isinstance(node.ctx, ast.Store):
                     self.assertNotIn(node.id, taken, name)
+
+    def test_static_methods_have_names_of_their_own(self):
+        plain = [node.name for _, cls in walk(ast.ClassDef) for node in cls.body
+                 if isinstance(node, ast.FunctionDef) and not node.decorator_list]
+        attributes = [node.attr for _, node in walk(ast.Attribute) if isinstance(node.ctx, ast.Store)]
+        for name, node in walk(ast.FunctionDef):
+            self.assertIn([ast.unparse(kind) for kind in node.decorator_list], ([], ["staticmethod"]), name)
+            if node.decorator_list:
+                self.assertNotIn(node.name, plain + attributes)
+
+    def test_no_generators_where_a_class_compares(self):
+        self.assertEqual(walk((ast.GeneratorExp, ast.Yield, ast.YieldFrom)), [])
+        for name, node in walk(ast.Attribute):
+            self.assertNotEqual(node.attr, "sort", name)
+
+    def test_sets_are_not_iterated(self):
+        for name, node in walk((ast.For, ast.comprehension)):
+            self.assertNotIsInstance(node.iter, (ast.Set, ast.SetComp), name)
 
     def test_errors_are_caught_by_the_names_of_the_package(self):
         for name, node in walk(ast.ExceptHandler):
