@@ -1,5 +1,6 @@
 """All answers over many small shops, held against a search of all turns that the tests make by themselves."""
 
+import itertools
 import random
 import unittest
 
@@ -7,6 +8,7 @@ from brute import AllRuns, extensions, kinded
 from pools import guess, small_shops
 from turnways.asks import (beginnings, every, fewest_changes, first, orders, outcomes, some, sometimes, unavoidable,
                            ways, webs)
+from turnways.errors import NoMoment
 from turnways.repairs import are_all, deciding, kept, least_stretches
 from turnways.stills import clashes, not_serial, standstills
 from turnways.webs import Web
@@ -75,7 +77,11 @@ class Webs(Search):
 
     def test_moments(self):
         for runs, own, web in self.webs():
-            self.assertEqual(web.moments(), own.moments())
+            moments = own.moments()
+            self.assertEqual(web.moments(), moments)
+            for other in itertools.product(range(3), repeat=runs.shop.many):
+                if other not in moments:
+                    self.assertRaises(NoMoment, web.outcome_at, other)
             order = own.orders[-1]
             for at in range(len(order) + 1):
                 moment = tuple([order[:at].count(k) for k in range(runs.shop.many)])

@@ -226,6 +226,12 @@ class Has(unittest.TestCase):
         for turns in ((0, 0, 1, 1), (0, 1, 1, 0), (1, 1, 0, 0), (0, 1, 0), (), (0, 1, 0, 1, 1), (0, 1, 0, 1, 0)):
             self.assertIs(self.web.has(turns), False)
 
+    def test_no_numbers_from_behind(self):
+        web = web_of((1,), [], [("rest",)])
+        self.assertIs(web.has((1,)), True)
+        self.assertIs(web.has((-1,)), False)
+        self.assertIs(web.has((2,)), False)
+
     def test_any_object(self):
         wrong = [None, 5, "0101", {0: 1}, {0, 1}, b"\x00\x01\x00\x01", object(), (False, True, False, True),
                  (0, True, 0, 1), [0, 1, 0, True], (0, 1, 0, None), (0, 1, 0, 2), (0, 1, 0, -1), ((0, 1), (0, 1)),
@@ -293,6 +299,11 @@ class Moments(unittest.TestCase):
         for moment in web.moments():
             self.assertEqual(web.outcome_at(moment), replay(shop, turns[moment]).outcome())
         self.assertEqual(web.outcome_at(moment=(2, 1)), replay(shop, (0, 1, 0)).outcome())
+
+    def test_a_first_step_needs_those_before_it(self):
+        web = web_of((0, 1), [("put", "x", 1)], [("look", "x")], cells=CELLS)
+        self.assertEqual(web.moments(), [(0, 0), (1, 0), (1, 1)])
+        self.assertEqual(failure(NoMoment, web.outcome_at, (0, 1)).moment, (0, 1))
 
     def test_no_moments(self):
         web = Web.of(counting(), (1, 0, 0, 1))

@@ -76,7 +76,8 @@ def unavoidable(shop, test):
         if not begun.onward:
             free.append(turns)
         for k, further in begun.onward.items():
-            least[further] = min(least.get(further, (*turns, k)), (*turns, k))
+            way = (*turns, k)
+            least[further] = min(least.get(further, way), way)
     return min(free, default=None)
 
 

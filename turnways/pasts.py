@@ -44,6 +44,6 @@ def place_among(rows, k, past):
     return at
 
 
-def with_step(rows, at, step):
-    """The rows with a step more, at a place of theirs."""
-    return (*rows[:at], step, *rows[at:])
+def put_among(rows, at, further):
+    """The rows with a further one at a place among them."""
+    return (*rows[:at], further, *rows[at:])

@@ -1,7 +1,7 @@
 """The search for all beginnings of a shop, and what tests tell of their outcomes."""
 
 from turnways.errors import Beyond, NotTruth
-from turnways.pasts import Step, past_of, place_among, with_step
+from turnways.pasts import Step, past_of, place_among, put_among
 from turnways.runs import Run
 from turnways.webs import Web
 
@@ -21,12 +21,12 @@ def go_on(begun, k, known):
     wish = begun.run.wish(k)
     past = past_of(rows, begun.web.shop.many, k, wish)
     at = place_among(rows, k, past)
-    turns = with_step(begun.web.least, at, k)
+    turns = put_among(begun.web.least, at, k)
     if turns not in known:
         run = begun.run.twin()
         answer = run.go(k)
         step = Step(k, past[k], wish, answer, past)
-        known[turns] = Beginning(Web(begun.web.shop, with_step(rows, at, step)), run)
+        known[turns] = Beginning(Web(begun.web.shop, put_among(rows, at, step)), run)
     return known[turns]
 
 

@@ -4,7 +4,7 @@ from turnways.errors import NoMoment, NoStep
 from turnways.kinds import is_whole
 from turnways.lines import line_up, ring_among
 from turnways.moments import all_moments, count_orders, is_moment, is_order
-from turnways.pasts import Step, past_of, place_among, with_step
+from turnways.pasts import Step, past_of, place_among, put_among
 from turnways.runs import replay
 from turnways.stretches import check_stretch, keeps
 
@@ -57,7 +57,7 @@ class Web:
         rows = ()
         for k, wish, answer in replay(shop, turns).steps():
             past = past_of(rows, shop.many, k, wish)
-            rows = with_step(rows, place_among(rows, k, past), Step(k, past[k], wish, answer, past))
+            rows = put_among(rows, place_among(rows, k, past), Step(k, past[k], wish, answer, past))
         return Web(shop, rows)
 
     def __eq__(self, other):
