@@ -5,7 +5,7 @@ import unittest
 from helpers import doing, failure, idle
 from turnways.asks import (beginnings, every, fewest_changes, first, orders, outcomes, some, sometimes, unavoidable,
                            ways, webs)
-from turnways.errors import BadValue, Beyond, NotTruth
+from turnways.errors import BadValue, Beyond, Held, NoThing, NotHeld, NotTruth
 from turnways.repairs import are_all, deciding, kept, least_stretches
 from turnways.runs import Run, replay
 from turnways.shops import Shop
@@ -371,6 +371,53 @@ class OwnErrors(unittest.TestCase):
         for shop in self.shops(lambda: [1]):
             for call in all_calls(shop, lambda outcome: True):
                 self.assertEqual(failure(BadValue, call).value, [1])
+
+    def test_errors_of_hands_that_a_work_lets_go_or_takes(self):
+        def giving(hand):
+            hand.look("n")
+            hand.give("a")
+
+        def asking(hand):
+            hand.look("n")
+            hand.look("none")
+
+        for work, kind in ((giving, NotHeld), (asking, NoThing)):
+            def taking(hand, work=work, kind=kind):
+                try:
+                    work(hand)
+                except kind:
+                    hand.put("n", 1)
+
+            for call in all_calls(Shop([work], cells={"n": 0}, locks=("a",)), lambda outcome: True):
+                failure(kind, call)
+            shop = Shop([taking, taking], cells={"n": 0}, locks=("a",))
+            self.assertEqual(ways(shop), ways(counting()))
+
+    def test_works_that_take_held_or_act_on_its_way(self):
+        def counting_still(hand):
+            try:
+                number = hand.look("n")
+                hand.put("n", number + 1)
+            except Held:
+                return 5
+            finally:
+                try:
+                    hand.put("n", 7)
+                    hand.say(7)
+                except Held:
+                    pass
+            return None
+
+        def count_and_put(hand):
+            count(hand)
+            hand.put("n", 7)
+            hand.say(7)
+
+        shop = Shop([counting_still] * 2, cells={"n": 0})
+        other = Shop([count_and_put] * 2, cells={"n": 0})
+        self.assertEqual(outcomes(shop), outcomes(other))
+        self.assertEqual(ways(shop), ways(other))
+        self.assertEqual(clashes(shop), clashes(other))
 
     def test_errors_that_no_run_comes_to(self):
         def in_none(hand):
